@@ -1,0 +1,1 @@
+"""Boughturn: tables of turners of an endless tree, with papers."""

@@ -1,0 +1,43 @@
+"""Words of turners: what they are, their contraries, and their order."""
+
+from boughturn.tables import is_turner
+
+
+def is_word(table, thing):
+    """Whether the thing, any thing, is a word of the table."""
+    if not isinstance(thing, list):
+        return False
+    many = len(table[1])
+    return all(is_turner(many, turner) and turner != 0 for turner in thing)
+
+
+def contrary(word):
+    """The word that undoes the word."""
+    return [-turner for turner in reversed(word)]
+
+
+def tidied(word):
+    """The word without turners that stand beside their contraries."""
+    kept = []
+    for turner in word:
+        # What is kept holds no pair, so a new one can only arise at its end.
+        if kept and kept[-1] == -turner:
+            kept.pop()
+        else:
+            kept.append(turner)
+    return kept
+
+
+def rank(turner):
+    """The turner's rank among the turners."""
+    return 2 * turner if turner >= 0 else 1 - 2 * turner
+
+
+def place(word):
+    """What puts words in their order, when it is compared."""
+    return (len(word), [rank(turner) for turner in word])
+
+
+def before(one, other):
+    """Whether the one word comes before the other."""
+    return place(one) < place(other)

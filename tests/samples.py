@@ -1,0 +1,33 @@
+"""Tables and things that several tests use."""
+
+# The four rows a, b, c, d of the document's first table.
+FIRST = (2, (((1, 0), (0, 0)), ((0, 1), (1, 3)), ((0, 1), (1, 4)), ((0, 1), (0, 2))))
+
+# Each row's turner counts one up, carrying to itself at the last letter.
+COUNT_TWO = (2, (((1, 0), (0, 1)),))
+COUNT_THREE = (3, (((1, 2, 0), (0, 0, 1)),))
+
+# Swaps that are not their own contrary, and parts of all kinds: ahead, contrary, 0.
+MIXED_THREE = (3, (((1, 2, 0), (0, -2, 1)), ((2, 0, 1), (2, 1, -1)), ((0, 2, 1), (-3, 0, 2))))
+MIXED_FOUR = (4, (((1, 2, 3, 0), (2, 0, -1, 1)), ((2, 0, 3, 1), (0, -2, 1, 0))))
+
+# Three turners of which no word but those that are tidied away does nothing.
+FREE = (2, (((1, 0), (3, 2)), ((1, 0), (2, 3)), ((0, 1), (1, 1))))
+
+NO_ROWS = (3, ())
+EIGHT_ROWS = (2, tuple(((1, 0), (k, -k)) for k in range(1, 9)))
+
+TABLES = (FIRST, COUNT_TWO, COUNT_THREE, MIXED_THREE, MIXED_FOUR, FREE, NO_ROWS, EIGHT_ROWS)
+
+
+def deep(many, inner, kind):
+    """A thing so many lists or tuples deep."""
+    for _ in range(many):
+        inner = kind([inner])
+    return inner
+
+
+ODD_THINGS = (
+    None, True, False, 0, 1, -1, 2, 10 ** 59, "", "table", "ab", [], (), [[]], ((),), (None,), [None],
+    (2,), (2, ()) * 2, deep(10, 1, list), deep(10, None, tuple), deep(9, "a", list), (2, deep(8, (), tuple)),
+)
