@@ -1,17 +1,10 @@
 """Points 5 and 6: words, contraries, tidied words, and which comes before which."""
 
-import itertools
 import unittest
 
 from boughturn.words import before, contrary, is_word, tidied
+from tests.oracle import all_words
 from tests.samples import EIGHT_ROWS, FIRST, MIXED_THREE, NO_ROWS, ODD_THINGS, TABLES, deep
-
-
-def all_words(turners, most):
-    """All words of these turners and at most so many of them."""
-    for many in range(most + 1):
-        for word in itertools.product(turners, repeat=many):
-            yield list(word)
 
 
 def tidied_ways(word):
