@@ -18,3 +18,11 @@ def led(table, word, way):
     for turner in word:
         reached = turner_led(table, turner, reached)
     return reached
+
+
+def ways_of(table, many):
+    """All ways of so many letters, in their order."""
+    ways = [[]]
+    for place in range(many):
+        ways = [way + [letter] for way in ways for letter in range(table[0])]
+    return ways

@@ -17,16 +17,37 @@ def tidied_belows(table, word):
     return [tidied(handed) for handed in belows(table, word)]
 
 
-def is_closed(table, words):
-    """Whether the list of words is closed, so that each of them does nothing."""
+def first_unclosed(table, words):
+    """The number of the first word that keeps the list of words from being closed, or None."""
     listed = {tuple(word) for word in words}
-    for word in words:
+    for at, word in enumerate(words):
         if moved_letter(table, word) is not None:
-            return False
+            return at
         for handed in tidied_belows(table, word):
             if tuple(handed) not in listed:
-                return False
-    return True
+                return at
+    return None
+
+
+def is_closed(table, words):
+    """Whether the list of words is closed, so that each of them does nothing."""
+    return first_unclosed(table, words) is None
+
+
+def come_to(table, word, most):
+    """The words that can be come to from the word, or None where they are more than the most."""
+    found = [tidied(word)]
+    seen = set()
+    seen.add(tuple(found[0]))
+    at = 0
+    while at < len(found) <= most:
+        handed_on = tidied_belows(table, found[at])
+        for handed in handed_on:
+            if tuple(handed) not in seen:
+                seen.add(tuple(handed))
+                found.append(handed)
+        at += 1
+    return found if len(found) <= most else None
 
 
 def rests(table, word, most):

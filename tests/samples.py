@@ -1,5 +1,7 @@
 """Tables and things that several tests use."""
 
+import random
+
 # The four rows a, b, c, d of the document's first table.
 FIRST = (2, (((1, 0), (0, 0)), ((0, 1), (1, 3)), ((0, 1), (1, 4)), ((0, 1), (0, 2))))
 
@@ -46,3 +48,19 @@ def turners(table):
     """The turners of a table but 0."""
     many = len(table[1])
     return [turner for turner in range(-many, many + 1) if turner != 0]
+
+
+def chance_words(seed, table, sizes):
+    """Words by chance of so many turners each, the same ones each time."""
+    chance = random.Random(seed)
+    for size in sizes:
+        yield [chance.choice(turners(table)) for _ in range(size)] if turners(table) else []
+
+
+def lists_within(thing):
+    """All lists in the thing, itself too."""
+    if isinstance(thing, list):
+        yield thing
+    if isinstance(thing, (list, tuple)):
+        for each in thing:
+            yield from lists_within(each)
