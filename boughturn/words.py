@@ -33,11 +33,11 @@ def rank(turner):
     return 2 * turner if turner >= 0 else 1 - 2 * turner
 
 
-def place(word):
-    """What puts words in their order, when it is compared."""
-    return (len(word), [rank(turner) for turner in word])
-
-
 def before(one, other):
     """Whether the one word comes before the other."""
-    return place(one) < place(other)
+    if len(one) != len(other):
+        return len(one) < len(other)
+    for mine, others in zip(one, other):
+        if mine != others:
+            return rank(mine) < rank(others)
+    return False

@@ -1,0 +1,72 @@
+"""The checker of books of orders."""
+
+from boughturn.orders import turned
+from boughturn.rings import rings, round_word
+from boughturn.rules import Shears
+from boughturn.steps import knots, step_orders, turning_steps
+from boughturn.tables import is_whole
+from boughturn.words import is_word
+
+
+def is_triple(thing):
+    """Whether the thing is a tuple of three."""
+    return isinstance(thing, tuple) and len(thing) == 3
+
+
+def is_step(table, thing):
+    """Whether the thing is a tuple of two whole numbers and a word."""
+    return is_triple(thing) and is_whole(thing[0]) and is_whole(thing[1]) and is_word(table, thing[2])
+
+
+def is_entry(table, thing):
+    """Whether the thing is a tuple of a word, a whole number and a list of steps."""
+    if not is_triple(thing) or not is_word(table, thing[0]) or not is_whole(thing[1]):
+        return False
+    return isinstance(thing[2], list) and all(is_step(table, step) for step in thing[2])
+
+
+def has_its_steps(table, shears, word, steps):
+    """Whether the word is in round form, and the steps are those of its rings."""
+    if turned(shears, word)[0] != word:
+        return False
+    ringed = rings(table, word)
+    if len(steps) != len(ringed):
+        return False
+    for ring, step in zip(ringed, steps):
+        if step != (ring[0], len(ring), turned(shears, round_word(table, word, ring))[0]):
+            return False
+    return True
+
+
+def numbered_rows(book):
+    """The steps of the book with the words' numbers in the words' stead, or None where a word isn't in the book."""
+    numbers = {tuple(word): number for number, (word, order, steps) in enumerate(book)}
+    rows = []
+    for word, order, steps in book:
+        if not all(tuple(target) in numbers for letter, many, target in steps):
+            return None
+        rows.append([(letter, many, numbers[tuple(target)]) for letter, many, target in steps])
+    return rows
+
+
+def has_its_orders(book):
+    """Whether each step leads within the book, no ring of steps turns, and the orders are those that steps give."""
+    rows = numbered_rows(book)
+    if rows is None:
+        return False
+    knotted = knots(rows)
+    if turning_steps(rows, knotted):
+        return False
+    return step_orders(rows, knotted) == [order for word, order, steps in book]
+
+
+def is_order_book(table, paper, word, thing):
+    """Whether the thing, any thing, is a book of orders of the word by the paper."""
+    if not isinstance(thing, list) or not thing or not all(is_entry(table, entry) for entry in thing):
+        return False
+    shears = Shears(paper[0])
+    if len({tuple(entry[0]) for entry in thing}) != len(thing) or thing[0][0] != turned(shears, word)[0]:
+        return False
+    if not all(has_its_steps(table, shears, each, steps) for each, number, steps in thing):
+        return False
+    return has_its_orders(thing)
