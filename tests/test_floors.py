@@ -52,7 +52,8 @@ class DownTests(unittest.TestCase):
         for table, paper in PAPERS:
             length = paper[2]
             for seed in range(3):
-                for word in chance_words(seed, table, (0, 1, length - 1, length, length + 1, 2 * length, 4 * length + 1)):
+                sizes = (0, 1, length - 1, length, length + 1, 2 * length, 4 * length + 1)
+                for word in chance_words(seed, table, sizes):
                     self.assertEqual(down(table, paper, word), go_down(table, paper, word), (table, word))
 
     def test_long_words(self):

@@ -183,8 +183,8 @@ class LeastTests(unittest.TestCase):
             self.assertEqual([row[0] for row in told[1]], [table[1][k - 1][0] for k in kept], table)
             self.assertEqual([names[k - 1] for k in kept], list(range(1, len(kept) + 1)), table)
             for row, k in zip(told[1], kept):
-                parts = [names[part - 1] if part > 0 else -names[-part - 1] if part else 0 for part in table[1][k - 1][1]]
-                self.assertEqual(row[1], tuple(parts), table)
+                named = [0, *names, *[-name for name in names[::-1]]]
+                self.assertEqual(row[1], tuple(named[part] for part in table[1][k - 1][1]), table)
 
 
 class OwnListTests(unittest.TestCase):

@@ -31,8 +31,8 @@ class BookTests(unittest.TestCase):
 
     samples = (
         (FIRST, FIRST_PAPER, [2, 1]), (FIRST, FIRST_PAPER, [1, 2, 1, 3, 1, 4]), (FIRST, FIRST_PAPER, [1]),
-        (FIRST, FIRST_PAPER, []), (THREES, paper_of(THREES), [2, 1, 1]), (SHALLOW_THREE, paper_of(SHALLOW_THREE), [4, 3]),
-        (SHALLOW_FOUR, paper_of(SHALLOW_FOUR), [1]),
+        (FIRST, FIRST_PAPER, []), (THREES, paper_of(THREES), [2, 1, 1]),
+        (SHALLOW_THREE, paper_of(SHALLOW_THREE), [4, 3]), (SHALLOW_FOUR, paper_of(SHALLOW_FOUR), [1]),
     )
 
 

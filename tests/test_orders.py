@@ -1,4 +1,4 @@
-"""Points 18, 19 and 20: orders, round forms, and words without an order; points 2 and 3 as far as they speak of these."""
+"""Points 18, 19 and 20: orders, round forms, and words without an order; points 2 and 3 on these."""
 
 import copy
 import random
@@ -309,9 +309,8 @@ class OrderTests(unittest.TestCase):
             paper = paper_of(table)
             for word in all_words((1, 2), 3):
                 told = order(table, paper, word, MOST)[1]
-                parts = [
-                    many * order(table, paper, target, MOST)[1] for letter, many, target in steps_of(table, paper[0], word)
-                ]
+                steps = steps_of(table, paper[0], word)
+                parts = [many * order(table, paper, target, MOST)[1] for letter, many, target in steps]
                 self.assertEqual([told % part for part in parts], [0] * len(parts))
                 self.assertFalse(any(all(fewer % part == 0 for part in parts) for fewer in range(1, told)))
 
