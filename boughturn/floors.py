@@ -60,9 +60,8 @@ def down(table, paper, word):
     return [handed for reached, handed in Stair(table, paper).floor(word)]
 
 
-def settled(table, paper, word):
-    """Whether the word does nothing by the paper, with what shows it: ("rests", book) or ("moves", way)."""
-    stair = Stair(table, paper)
+def settled_by(stair, word):
+    """What `settled` tells, by a stair that may have gone down before."""
     found = [stair.shears.cut_word(word)]
     way_to = {tuple(found[0]): []}
     book = []
@@ -79,6 +78,11 @@ def settled(table, paper, word):
                     way_to[tuple(handed)] = way + step
                     found.append(list(handed))
     return ("rests", book)
+
+
+def settled(table, paper, word):
+    """Whether the word does nothing by the paper, with what shows it: ("rests", book) or ("moves", way)."""
+    return settled_by(Stair(table, paper), word)
 
 
 def is_entry(table, thing):

@@ -4,13 +4,8 @@ from boughturn.orders import turned
 from boughturn.rings import rings, round_word
 from boughturn.rules import Shears
 from boughturn.steps import knots, step_orders, turning_steps
-from boughturn.tables import is_whole
+from boughturn.tables import is_triple, is_whole
 from boughturn.words import is_word
-
-
-def is_triple(thing):
-    """Whether the thing is a tuple of three."""
-    return isinstance(thing, tuple) and len(thing) == 3
 
 
 def is_step(table, thing):

@@ -5,8 +5,8 @@ from boughturn.belows import below
 from boughturn.closed import come_to, first_unclosed
 from boughturn.errors import NoPaper
 from boughturn.rules import Shears, is_rule
-from boughturn.tables import is_whole
-from boughturn.words import contrary, is_word, tidied
+from boughturn.tables import is_within
+from boughturn.words import contrary, is_word, rising_turners, tidied
 
 MOST_RULES = 60
 MOST_CLOSED = 300
@@ -22,11 +22,6 @@ MOST_COME_TO = 200
 def is_row_of(most, thing):
     """Whether the thing is a list or tuple of at most so many things."""
     return isinstance(thing, (list, tuple)) and len(thing) <= most
-
-
-def is_within(low, thing, high):
-    """Whether the thing is a whole number from the low to the high."""
-    return is_whole(thing) and low <= thing <= high
 
 
 def many_ways(letters, depth):
@@ -72,7 +67,7 @@ def look_shown(table, rules, closed):
 
 def longer_stiff(table, shears, words):
     """The stiff words of one turner behind a word of these, in their order where these are in theirs."""
-    rising = [turner for k in range(1, len(table[1]) + 1) for turner in (k, -k)]
+    rising = rising_turners(table)
     longer = [word + [turner] for word in words for turner in rising]
     return [word for word in longer if shears.is_stiff(word)]
 

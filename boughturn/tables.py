@@ -10,14 +10,24 @@ def is_whole(thing):
     return isinstance(thing, int) and not isinstance(thing, bool)
 
 
+def is_within(low, thing, high):
+    """Whether the thing is a whole number from the low to the high."""
+    return is_whole(thing) and low <= thing <= high
+
+
 def is_turner(many, thing):
     """Whether the thing is a turner of a table of so many rows."""
-    return is_whole(thing) and -many <= thing <= many
+    return is_within(-many, thing, many)
 
 
 def is_pair(thing):
     """Whether the thing is a tuple of two."""
     return isinstance(thing, tuple) and len(thing) == 2
+
+
+def is_triple(thing):
+    """Whether the thing is a tuple of three."""
+    return isinstance(thing, tuple) and len(thing) == 3
 
 
 def are_swaps(letters, thing):
@@ -45,7 +55,7 @@ def is_table(thing):
     if not is_pair(thing):
         return False
     letters, rows = thing
-    if not is_whole(letters) or not LEAST_LETTERS <= letters <= MOST_LETTERS:
+    if not is_within(LEAST_LETTERS, letters, MOST_LETTERS):
         return False
     if not isinstance(rows, tuple) or len(rows) > MOST_ROWS:
         return False

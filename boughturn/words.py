@@ -33,6 +33,11 @@ def rank(turner):
     return 2 * turner if turner >= 0 else 1 - 2 * turner
 
 
+def rising_turners(table):
+    """The turners of the table but 0, by rank."""
+    return [turner for k in range(1, len(table[1]) + 1) for turner in (k, -k)]
+
+
 def before(one, other):
     """Whether the one word comes before the other."""
     if len(one) != len(other):
