@@ -32,7 +32,7 @@ class Stair:
         joined = []
         for start in range(0, len(word), self.length):
             way, handed = self.pass_piece(word[start:start + self.length], way)
-            joined = joined + handed
+            joined.extend(handed)
         return (way, self.shears.cut_word(joined))
 
     def floor(self, word):

@@ -1,9 +1,8 @@
 """The checker of books of orders."""
 
-from boughturn.orders import turned
-from boughturn.rings import rings, round_word
-from boughturn.rules import Shears
+from boughturn.joints import turned
 from boughturn.steps import knots, step_orders, turning_steps
+from boughturn.strides import Strider
 from boughturn.tables import is_triple, is_whole
 from boughturn.words import is_word
 
@@ -20,15 +19,15 @@ def is_entry(table, thing):
     return isinstance(thing[2], list) and all(is_step(table, step) for step in thing[2])
 
 
-def has_its_steps(table, shears, word, steps):
+def has_its_steps(strider, word, steps):
     """Whether the word is in round form, and the steps are those of its rings."""
-    if turned(shears, word)[0] != word:
+    if turned(strider.shears, word)[0] != word:
         return False
-    ringed = rings(table, word)
+    ringed = strider.round_words(word, 1)
     if len(steps) != len(ringed):
         return False
-    for ring, step in zip(ringed, steps):
-        if step != (ring[0], len(ring), turned(shears, round_word(table, word, ring))[0]):
+    for (letter, many, handed, times), step in zip(ringed, steps):
+        if step != (letter, many, turned(strider.shears, handed * times)[0]):
             return False
     return True
 
@@ -59,9 +58,9 @@ def is_order_book(table, paper, word, thing):
     """Whether the thing, any thing, is a book of orders of the word by the paper."""
     if not isinstance(thing, list) or not thing or not all(is_entry(table, entry) for entry in thing):
         return False
-    shears = Shears(paper[0])
-    if len({tuple(entry[0]) for entry in thing}) != len(thing) or thing[0][0] != turned(shears, word)[0]:
+    strider = Strider(table, paper[0])
+    if len({tuple(entry[0]) for entry in thing}) != len(thing) or thing[0][0] != turned(strider.shears, word)[0]:
         return False
-    if not all(has_its_steps(table, shears, each, steps) for each, number, steps in thing):
+    if not all(has_its_steps(strider, each, steps) for each, number, steps in thing):
         return False
     return has_its_orders(thing)

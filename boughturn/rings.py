@@ -3,12 +3,11 @@
 from boughturn.belows import below, letters_of
 
 
-def rings(table, word):
-    """The lists of letters that the word leads round, each from its least letter on."""
-    made = letters_of(table, word)
+def rings_of(made):
+    """The lists of letters that are led round where these are made of the letters, each from its least letter on."""
     told = []
     seen = set()
-    for start in range(table[0]):
+    for start in range(len(made)):
         if start not in seen:
             ring = []
             letter = start
@@ -18,6 +17,11 @@ def rings(table, word):
                 letter = made[letter]
             told.append(ring)
     return told
+
+
+def rings(table, word):
+    """The lists of letters that the word leads round, each from its least letter on."""
+    return rings_of(letters_of(table, word))
 
 
 def round_word(table, word, ring):

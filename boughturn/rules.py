@@ -18,53 +18,78 @@ def is_rule(table, thing):
     return len(right) < len(left)
 
 
+def by_second(rules):
+    """Of rules whose lefts begin alike, backward ones, those that can stand where the second turner is so.
+
+    By 0 those are told that can stand whatever the second turner is.
+    """
+    told = {0: [rule for rule in rules if len(rule[0]) == 1]}
+    for backward, put in rules:
+        if len(backward) > 1 and backward[-2] not in told:
+            second = backward[-2]
+            told[second] = [rule for rule in rules if len(rule[0]) == 1 or rule[0][-2] == second]
+    return told
+
+
 class Shears:
-    """Cuts words by a list of rules, looked through once."""
+    """Cuts words by a list of rules, looked through once.
+
+    What is not looked at yet stands backward in a list of its own, its first turner last, so that turners are taken
+    from it and put back quickly, however long the word is. Rules are kept backward, too.
+    """
 
     def __init__(self, rules):
         self.longest = 1
-        self.by_first = {}
+        by_first = {}
         for left, right in rules:
             self.longest = max(self.longest, len(left))
-            self.by_first.setdefault(left[0], []).append((list(left), list(right)))
+            by_first.setdefault(left[0], []).append((left[::-1], right[::-1]))
+        self.by_first = {first: by_second(by_first[first]) for first in by_first}
 
-    def rule_at(self, word, at):
-        """The first rule of which the left stands at this place of the word, or None."""
-        for rule in self.by_first.get(word[at], []):
-            left = rule[0]
-            if word[at:at + len(left)] == left:
+    def rule_for(self, rest):
+        """The first rule of which the left stands at the front of what is not looked at, or None."""
+        seconds = self.by_first.get(rest[-1])
+        if seconds is None:
+            return None
+        rules = seconds.get(rest[-2] if len(rest) > 1 else 0, seconds[0])
+        for rule in rules:
+            if rest[-len(rule[0]):] == rule[0]:
                 return rule
         return None
 
-    def is_stiff(self, word):
-        """Whether no left stands in the word."""
-        return all(self.rule_at(word, at) is None for at in range(len(word)))
+    def put_back(self, kept, rest):
+        """Puts back so many turners that no left is passed over that stands now and did not before."""
+        many = min(self.longest - 1, len(kept))
+        for place in range(many):
+            rest.append(kept.pop())
 
-    def shorten(self, word, at, clean):
-        """Cuts the list itself, of which it is known that no left begins ahead of `at`, nor from `clean` on."""
-        while at < clean:
-            rule = self.rule_at(word, at)
+    def cut_on(self, kept, rest, enough):
+        """Goes on as long as the rest has enough turners; what was kept and what is left are changed themselves.
+
+        Told is how many turners, of those kept at first, were never put back; it is below 0 where fewer could be put
+        back than would have been.
+        """
+        untouched = len(kept)
+        while len(rest) >= enough:
+            rule = self.rule_for(rest)
             if rule is None:
-                at += 1
+                kept.append(rest.pop())
             else:
-                left, right = rule
-                end = at + len(left)
-                word[at:end] = right
-                clean = max(clean, end) + len(right) - len(left)
-                # A left that stands now and did not before must reach to what was put in.
-                at = max(0, at - self.longest + 1)
+                backward, put = rule
+                rest[-len(backward):] = put
+                untouched = min(untouched, len(kept) - self.longest + 1)
+                self.put_back(kept, rest)
+        return untouched
 
     def cut_word(self, word):
         """The word, cut."""
-        kept = list(word)
-        self.shorten(kept, 0, len(kept))
+        kept = []
+        self.cut_on(kept, word[::-1], 1)
         return kept
 
-    def cut_joint(self, fore, hind):
-        """The one word with the other behind it, cut; both are stiff, so only their joint is looked at."""
-        kept = fore + hind
-        self.shorten(kept, max(0, len(fore) - self.longest + 1), len(fore))
-        return kept
+    def is_stiff(self, word):
+        """Whether no left stands in the word."""
+        return self.cut_word(word) == word
 
 
 def cut(rules, word):

@@ -42,6 +42,8 @@ def before(one, other):
     """Whether the one word comes before the other."""
     if len(one) != len(other):
         return len(one) < len(other)
+    if one == other:
+        return False
     for mine, others in zip(one, other):
         if mine != others:
             return rank(mine) < rank(others)

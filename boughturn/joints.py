@@ -1,0 +1,220 @@
+"""Words with their hind part put ahead of their fore part, and cut: which of them comes first.
+
+A word that is cut is stiff: with its hind part put ahead, only what stands about the joint can be cut. What comes of
+it is the same for most partings, so it is gone through once for all of them; for one alone only from where it comes
+out otherwise, a left reaching beyond what is put ahead there, or beginning before it.
+"""
+
+from boughturn.words import before, rank
+
+# So many ranks are compared at a time, as long as they are the same.
+CHUNK = 32
+
+
+class Joint:
+    """The end of a stiff word with its front behind it, being cut.
+
+    It stands for the word's turners from `bottom` to `low`, those kept, those of the rest, which stand backward, and
+    the word's turners from `taken` to `end`. No left begins ahead of the rest.
+    """
+
+    def __init__(self, shears, word):
+        self.shears = shears
+        self.word = word
+        self.bottom = 0
+        self.low = len(word)
+        self.kept = []
+        self.rest = []
+        self.taken = 0
+        self.end = len(word)
+        self.put_back()
+
+    def put_back(self):
+        """Puts back into the rest what must be looked at anew."""
+        wanted = self.shears.longest - 1 - len(self.kept)
+        self.shears.put_back(self.kept, self.rest)
+        if wanted > 0:
+            start = max(self.bottom, self.low - wanted)
+            self.rest.extend(self.word[start:self.low][::-1])
+            self.low = start
+
+    def next_rule(self):
+        """The first rule of which the left stands where the rest begins, or None."""
+        wanted = max(0, self.shears.longest - len(self.rest))
+        more = self.word[self.taken:min(self.end, self.taken + wanted)]
+        return self.shears.rule_for(more[::-1] + self.rest)
+
+    def place(self):
+        """The place in the word where the rest begins, if no turner ahead of it was cut."""
+        return self.low + len(self.kept)
+
+    def reach(self, rule):
+        """How many turners of the word's front are taken once the rule's left is."""
+        return self.taken + max(0, len(rule[0]) - len(self.rest))
+
+    def cut_by(self, rule):
+        """Puts the rule's right in its left's stead."""
+        backward, put = rule
+        reached = self.reach(rule)
+        self.rest[-len(backward):] = put
+        self.taken = reached
+        self.put_back()
+
+    def step(self):
+        """Looks at one place."""
+        rule = self.next_rule()
+        if rule is None:
+            self.kept.append(self.rest.pop())
+        else:
+            self.cut_by(rule)
+
+    def parted_at(self, at):
+        """The same for a word of which only the turners from this place on are put ahead, and those before behind."""
+        alone = Joint(self.shears, self.word)
+        over = max(0, at - self.low)
+        alone.bottom = alone.end = at
+        alone.low = max(self.low, at)
+        alone.kept = self.kept[over:]
+        alone.rest = list(self.rest)
+        for place in range(over - len(self.kept)):
+            alone.rest.pop()
+        alone.taken = self.taken
+        return alone
+
+    def many_left(self):
+        """How many turners are left, wherever the word is parted, once no rest is."""
+        return self.low + len(self.kept) - self.taken
+
+    def turned_at(self, at):
+        """The word with its turners from this place on put ahead, once no rest is."""
+        return self.word[at:self.low] + self.kept[max(0, at - self.low):] + self.word[self.taken:at]
+
+
+def agreement(ranks, one, other, most):
+    """How many ranks, at most so many, are the same from the one place on as from the other."""
+    same = 0
+    while same < most and ranks[one + same:one + same + CHUNK] == ranks[other + same:other + same + CHUNK]:
+        same += CHUNK
+    while same < most and ranks[one + same] == ranks[other + same]:
+        same += 1
+    return min(same, most)
+
+
+def least_start(ranks, last):
+    """The first place, none behind the last, from which the ranks, read round, are the least."""
+    many = len(ranks)
+    if many == 0:
+        return 0
+    twice = ranks + ranks
+    least = min(ranks[:last + 1])
+    one = twice.index(least)
+    other = twice.index(least, one + 1)
+    while one <= last and other <= last:
+        same = agreement(twice, one, other, many)
+        if same == many:
+            return one
+        # As many places on as are the same, each is worse than that of the better row, if that is none behind the last.
+        if twice[one + same] > twice[other + same]:
+            start = min(last, one + min(same, last - other)) + 1
+            one = other
+            other = max(start, other + 1)
+        else:
+            other += min(same, last - one) + 1
+        other = twice.index(least, min(last + 1, other))
+    return one
+
+
+def ranks_of(word):
+    """The ranks of the word's turners."""
+    known = {turner: rank(turner) for turner in sorted(set(word))}
+    return [known[turner] for turner in word]
+
+
+class Partings:
+    """A stiff word with its hind part put ahead, and cut, for each place at which it can be parted."""
+
+    def __init__(self, shears, word):
+        self.word = word
+        self.joint = Joint(shears, word)
+        # The places at which the word can be parted so that nothing comes out otherwise than at the joint.
+        self.low = 1
+        self.high = len(word) - 1
+        # The fewest turners that are left so far, and the partings gone through alone that leave so many.
+        self.fewest = len(word)
+        self.alone = []
+        # How far the word is looked at, from its front on and from its end back.
+        self.front = 0
+        self.back = len(word)
+        self.go_through()
+
+    def look_how_far(self, joint):
+        """Takes in how far the word was looked at there."""
+        self.front = max(self.front, joint.taken + joint.shears.longest)
+        self.back = min(self.back, joint.low)
+
+    def part_alone(self, at):
+        """Goes through the parting at this place alone."""
+        alone = self.joint.parted_at(at)
+        while alone.rest:
+            alone.step()
+        self.look_how_far(alone)
+        if alone.many_left() < self.fewest:
+            self.fewest = alone.many_left()
+            self.alone = []
+        if alone.many_left() == self.fewest:
+            self.alone.append(alone)
+
+    def part(self, low, high):
+        """Goes through the partings alone that are not at places from the low one to the high one."""
+        for at in range(self.low, min(low, self.high + 1)):
+            self.part_alone(at)
+        self.low = max(self.low, low)
+        for at in range(max(high + 1, self.low), self.high + 1):
+            self.part_alone(at)
+        self.high = min(self.high, high)
+
+    def go_through(self):
+        """Goes through all partings."""
+        joint = self.joint
+        while joint.rest and self.low <= self.high:
+            rule = joint.next_rule()
+            if rule is not None:
+                self.part(joint.reach(rule), joint.place())
+            joint.step()
+        self.look_how_far(joint)
+        if self.low <= self.high and joint.many_left() < self.fewest:
+            self.fewest = joint.many_left()
+            self.alone = []
+
+    def turned_words(self):
+        """The words of the fewest turners with their places; of those that are cut alike the first one only."""
+        told = []
+        if len(self.word) == self.fewest:
+            told.append((self.word, 0))
+        if self.low <= self.high and self.joint.many_left() == self.fewest:
+            word = self.joint.turned_at(self.low)
+            at = least_start(ranks_of(word), self.high - self.low)
+            told.append((word[at:] + word[:at], self.low + at))
+        for alone in self.alone:
+            told.append((alone.turned_at(alone.end), alone.end))
+        return told
+
+    def first(self):
+        """The first one of all that come of it, and the number of turners put behind."""
+        first, place = self.word, 0
+        for other, at in self.turned_words():
+            if before(other, first):
+                first, place = other, at
+        return (first, place)
+
+
+def turned(shears, word):
+    """The word's round form and a turner: with its contrary ahead and it behind, the word is alike to the form."""
+    form = shears.cut_word(word)
+    turner = []
+    other, place = Partings(shears, form).first()
+    while place > 0:
+        turner = shears.cut_word(turner + form[:place])
+        form = other
+        other, place = Partings(shears, form).first()
+    return (form, turner)
