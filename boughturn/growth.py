@@ -5,10 +5,11 @@ by sums that no rule changes, at no step, words are told apart. Where a word lea
 round word has the parts of each of its turners, one at each letter: so its counts are known from the word's.
 """
 
+from boughturn.signs import sign_of
 from boughturn.steps import common_divisor
 
-# So often done, any turning of at most four letters does nothing.
-MOST_TURNS = 12
+# So often done, any turning of at most six letters does nothing.
+MOST_TURNS = 60
 
 
 def counts_of(table, word):
@@ -148,9 +149,14 @@ class Growth:
         sizes = [ring_size(turned_by(turning, shift), self.herd[0]) for shift in self.shifts]
         return min(sizes) == len(self.herd)
 
+    def counts_in(self, text):
+        """The counts of the word of this text."""
+        many = len(self.sums)
+        return [text.count(sign_of(row)) - text.count(sign_of(-row)) for row in range(1, many + 1)]
+
     def leads_to_more(self, root, times, most):
-        """Whether it is shown that steps lead from the root, done so many times, to more than the most words."""
-        counts = [times * number for number in counts_of(self.table, root)]
+        """Whether steps are shown to lead from the root, a text, done so many times, to more than the most words."""
+        counts = [times * number for number in self.counts_in(root)]
         seen = set()
         while len(seen) <= most:
             key = tuple([product(gauge, counts) for gauge in self.gauges])

@@ -2,20 +2,22 @@
 
 A word that is cut is stiff: with its hind part put ahead, only what stands about the joint can be cut. What comes of
 it is the same for most partings, so it is gone through once for all of them; for one alone only from where it comes
-out otherwise, a left reaching beyond what is put ahead there, or beginning before it.
+out otherwise, a left reaching beyond what is put ahead there, or beginning before it. All words are texts here.
 """
 
-from boughturn.words import before, rank
+from boughturn.signs import pieces_of
 
-# So many ranks are compared at a time, as long as they are the same.
+# So many signs are looked for that the least row of signs begins with.
+MOST_PREFIX = 16
+# So many signs are compared at first, then twice as many, and so on.
 CHUNK = 32
 
 
 class Joint:
     """The end of a stiff word with its front behind it, being cut.
 
-    It stands for the word's turners from `bottom` to `low`, those kept, those of the rest, which stand backward, and
-    the word's turners from `taken` to `end`. No left begins ahead of the rest.
+    It stands for the word's signs from `bottom` to `low`, those kept, those of the rest, which stand backward, and the
+    word's signs from `taken` to `end`. No left begins ahead of the rest.
     """
 
     def __init__(self, shears, word):
@@ -42,14 +44,14 @@ class Joint:
         """The first rule of which the left stands where the rest begins, or None."""
         wanted = max(0, self.shears.longest - len(self.rest))
         more = self.word[self.taken:min(self.end, self.taken + wanted)]
-        return self.shears.rule_for(more[::-1] + self.rest)
+        return self.shears.rule_for(list(more[::-1]) + self.rest)
 
     def place(self):
-        """The place in the word where the rest begins, if no turner ahead of it was cut."""
+        """The place in the word where the rest begins, if no sign ahead of it was cut."""
         return self.low + len(self.kept)
 
     def reach(self, rule):
-        """How many turners of the word's front are taken once the rule's left is."""
+        """How many signs of the word's front are taken once the rule's left is."""
         return self.taken + max(0, len(rule[0]) - len(self.rest))
 
     def cut_by(self, rule):
@@ -69,7 +71,7 @@ class Joint:
             self.cut_by(rule)
 
     def parted_at(self, at):
-        """The same for a word of which only the turners from this place on are put ahead, and those before behind."""
+        """The same for a word of which only the signs from this place on are put ahead, and those before behind."""
         alone = Joint(self.shears, self.word)
         over = max(0, at - self.low)
         alone.bottom = alone.end = at
@@ -82,52 +84,65 @@ class Joint:
         return alone
 
     def many_left(self):
-        """How many turners are left, wherever the word is parted, once no rest is."""
+        """How many signs are left, wherever the word is parted, once no rest is."""
         return self.low + len(self.kept) - self.taken
 
     def turned_at(self, at):
-        """The word with its turners from this place on put ahead, once no rest is."""
-        return self.word[at:self.low] + self.kept[max(0, at - self.low):] + self.word[self.taken:at]
+        """The word with its signs from this place on put ahead, once no rest is."""
+        kept = "".join(self.kept[max(0, at - self.low):])
+        return self.word[at:self.low] + kept + self.word[self.taken:at]
 
 
-def agreement(ranks, one, other, most):
-    """How many ranks, at most so many, are the same from the one place on as from the other."""
+def agreement(text, one, other, most):
+    """How many signs, at most so many, are the same from the one place on as from the other."""
     same = 0
-    while same < most and ranks[one + same:one + same + CHUNK] == ranks[other + same:other + same + CHUNK]:
-        same += CHUNK
-    while same < most and ranks[one + same] == ranks[other + same]:
-        same += 1
+    size = CHUNK
+    while same < most and text[one + same:one + same + size] == text[other + same:other + same + size]:
+        same += size
+        size *= 2
+    while size > 0 and same < most:
+        if text[one + same:one + same + size] == text[other + same:other + same + size]:
+            same += size
+        size //= 2
     return min(same, most)
 
 
-def least_start(ranks, last):
-    """The first place, none behind the last, from which the ranks, read round, are the least."""
-    many = len(ranks)
-    if many == 0:
-        return 0
-    twice = ranks + ranks
-    least = min(ranks[:last + 1])
-    one = twice.index(least)
-    other = twice.index(least, one + 1)
-    while one <= last and other <= last:
+def least_prefix(text, size):
+    """The least of all rows of so many signs that stand in the text."""
+    least = text[:size]
+    seen = set()
+    at = 0
+    for piece in pieces_of(text):
+        stretch = text[at:at + len(piece) + size - 1]
+        if stretch not in seen:
+            seen.add(stretch)
+            rows = [stretch[place:place + size] for place in range(len(stretch) - size + 1)]
+            least = min([least] + rows)
+        at += len(piece)
+    return least
+
+
+def least_start(text, last):
+    """The first place, none behind the last, from which the text, read round, is the least."""
+    many = len(text)
+    twice = text + text
+    end = last + min(MOST_PREFIX, many)
+    # What the least row begins with stands at few places: only these are looked at.
+    prefix = least_prefix(twice[:end], min(MOST_PREFIX, many))
+    one = max(0, twice.find(prefix, 0, end))
+    other = twice.find(prefix, one + 1, end)
+    while other >= 0:
         same = agreement(twice, one, other, many)
         if same == many:
             return one
         # As many places on as are the same, each is worse than that of the better row, if that is none behind the last.
         if twice[one + same] > twice[other + same]:
-            start = min(last, one + min(same, last - other)) + 1
+            start = max(other, one + min(same, last - other)) + 1
             one = other
-            other = max(start, other + 1)
         else:
-            other += min(same, last - one) + 1
-        other = twice.index(least, min(last + 1, other))
+            start = other + min(same, last - one) + 1
+        other = twice.find(prefix, start, end)
     return one
-
-
-def ranks_of(word):
-    """The ranks of the word's turners."""
-    known = {turner: rank(turner) for turner in sorted(set(word))}
-    return [known[turner] for turner in word]
 
 
 class Partings:
@@ -139,7 +154,7 @@ class Partings:
         # The places at which the word can be parted so that nothing comes out otherwise than at the joint.
         self.low = 1
         self.high = len(word) - 1
-        # The fewest turners that are left so far, and the partings gone through alone that leave so many.
+        # The fewest signs that are left so far, and the partings gone through alone that leave so many.
         self.fewest = len(word)
         self.alone = []
         # How far the word is looked at, from its front on and from its end back.
@@ -187,34 +202,36 @@ class Partings:
             self.alone = []
 
     def turned_words(self):
-        """The words of the fewest turners with their places; of those that are cut alike the first one only."""
+        """The words of the fewest signs, with their places; of those that are cut alike the first one only."""
         told = []
         if len(self.word) == self.fewest:
             told.append((self.word, 0))
         if self.low <= self.high and self.joint.many_left() == self.fewest:
             word = self.joint.turned_at(self.low)
-            at = least_start(ranks_of(word), self.high - self.low)
+            at = least_start(word, self.high - self.low)
             told.append((word[at:] + word[:at], self.low + at))
         for alone in self.alone:
             told.append((alone.turned_at(alone.end), alone.end))
         return told
 
     def first(self):
-        """The first one of all that come of it, and the number of turners put behind."""
-        first, place = self.word, 0
-        for other, at in self.turned_words():
-            if before(other, first):
-                first, place = other, at
-        return (first, place)
+        """The first one of all that come of it, and the number of signs put behind."""
+        return min(self.turned_words(), key=lambda told: told[0])
 
 
-def turned(shears, word):
-    """The word's round form and a turner: with its contrary ahead and it behind, the word is alike to the form."""
-    form = shears.cut_word(word)
-    turner = []
-    other, place = Partings(shears, form).first()
-    while place > 0:
-        turner = shears.cut_word(turner + form[:place])
-        form = other
-        other, place = Partings(shears, form).first()
+def turned(press, pieces):
+    """The round form of the pieces, one behind the other, and a turner.
+
+    With its contrary ahead and it behind, the word is alike to the form.
+    """
+    form = press.cut_pieces(pieces)
+    turner = ""
+    place = -1
+    while place != 0:
+        partings = Partings(press.shears, form)
+        press.work += 16 * (partings.front + len(form) - partings.back)
+        other, place = partings.first()
+        if place > 0:
+            turner = press.cut_text(turner + form[:place])
+            form = other
     return (form, turner)

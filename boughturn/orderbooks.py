@@ -1,6 +1,7 @@
 """The checker of books of orders."""
 
 from boughturn.joints import turned
+from boughturn.signs import pieces_of, text_of, word_of
 from boughturn.steps import knots, step_orders, turning_steps
 from boughturn.strides import Strider
 from boughturn.tables import is_triple, is_whole
@@ -19,15 +20,21 @@ def is_entry(table, thing):
     return isinstance(thing[2], list) and all(is_step(table, step) for step in thing[2])
 
 
+def form_of(strider, pieces):
+    """The round form of the pieces, one behind the other."""
+    return word_of(turned(strider.press, pieces)[0])
+
+
 def has_its_steps(strider, word, steps):
     """Whether the word is in round form, and the steps are those of its rings."""
-    if turned(strider.shears, word)[0] != word:
+    text = text_of(word)
+    if form_of(strider, pieces_of(text)) != word:
         return False
-    ringed = strider.round_words(word, 1)
+    ringed = strider.round_words(text, 1)
     if len(steps) != len(ringed):
         return False
-    for (letter, many, handed, times), step in zip(ringed, steps):
-        if step != (letter, many, turned(strider.shears, handed * times)[0]):
+    for (letter, many, pieces, times), step in zip(ringed, steps):
+        if step != (letter, many, form_of(strider, pieces * times)):
             return False
     return True
 
@@ -59,7 +66,7 @@ def is_order_book(table, paper, word, thing):
     if not isinstance(thing, list) or not thing or not all(is_entry(table, entry) for entry in thing):
         return False
     strider = Strider(table, paper[0])
-    if len({tuple(entry[0]) for entry in thing}) != len(thing) or thing[0][0] != turned(strider.shears, word)[0]:
+    if len({tuple(entry[0]) for entry in thing}) != len(thing) or thing[0][0] != form_of(strider, [text_of(word)]):
         return False
     if not all(has_its_steps(strider, each, steps) for each, number, steps in thing):
         return False

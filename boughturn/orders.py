@@ -3,7 +3,8 @@
 from boughturn.acting import led
 from boughturn.belows import below
 from boughturn.joints import turned
-from boughturn.rules import Shears
+from boughturn.presses import Press
+from boughturn.signs import text_of, word_of
 from boughturn.steps import knots, step_orders, turning_ring, turning_steps
 from boughturn.strides import Walk
 from boughturn.words import contrary
@@ -11,7 +12,7 @@ from boughturn.words import contrary
 
 def round_form(paper, word):
     """The word, turned about to its round form by the paper."""
-    return turned(Shears(paper[0]), word)[0]
+    return word_of(turned(Press(paper[0]), [text_of(word)])[0])
 
 
 def order_book(walk, orders):
@@ -23,18 +24,17 @@ def order_book(walk, orders):
     return book
 
 
-def round_word_at(walk, number, letter):
-    """The round word of the word of this number, for the ring of this letter."""
+def turner_at(walk, number, letter):
+    """The turner by which the round word of the word of this number, for the ring of this letter, is turned about."""
     root, times = walk.found[number]
-    for least, many, word, often in walk.strider.round_words(root, times):
+    for least, many, pieces, often in walk.strider.round_words(root, times):
         if least == letter:
-            return word * often
+            return word_of(turned(walk.strider.press, pieces * often)[1])
     return []
 
 
 def never(table, walk, ring):
     """What shows, by a ring of steps that turns, that no number of times will do."""
-    shears = walk.strider.shears
     way = []
     times = 1
     about = []
@@ -42,8 +42,8 @@ def never(table, walk, ring):
     # ahead of it and its contrary behind.
     for number, (letter, many, target) in ring:
         ahead = led(table, contrary(about), [letter])
-        turner = turned(shears, round_word_at(walk, number, letter))[1]
-        about = shears.cut_word(below(table, about, ahead) + turner)
+        turner = turner_at(walk, number, letter)
+        about = word_of(walk.strider.press.cut_text(text_of(below(table, about, ahead) + turner)))
         way = way + ahead
         times *= many
     return ("never", walk.word_at(ring[0][0]), way, times, about)

@@ -1,10 +1,12 @@
 """Words done many times: their round forms, told by a root and how often it is done.
 
 Steps can lead to a word that is done so many times that it can't be written out. Cutting goes along such a word as it
-goes along a few times of it: once all that is looked at comes again, time by time, it comes again for ever.
+goes along a few times of it: once all that is looked at comes again, time by time, it comes again for ever. All words
+are texts here; what is being cut is a list of signs.
 """
 
 from boughturn.joints import Partings, turned
+from boughturn.signs import pieces_of
 
 # It is not looked further whether what is kept comes again.
 MOST_BEGUN = 12
@@ -48,10 +50,10 @@ class Run:
         self.rest = rest
 
     def cut_with(self, shears, many):
-        """All of it with `again` so many times, cut to the end, and how many turners were never put back."""
+        """All of it with `again` so many times, cut to the end, and how many signs were never put back."""
         kept = self.fore + self.again * many + self.hind
         untouched = shears.cut_on(kept, list(self.rest), 1)
-        return (kept, untouched)
+        return ("".join(kept), untouched)
 
     def few(self, shears):
         """So many times that what is looked at about the ends should be far from the middle."""
@@ -89,7 +91,7 @@ def run_of(shears, word, times):
     states = [([], [])]
     lowest = []
     for begun in range(min(MOST_BEGUN, times)):
-        rest = word[::-1] + rest
+        rest = list(word[::-1]) + rest
         low = shears.cut_on(kept, rest, shears.longest)
         lowest = [min(each, low) for each in lowest + [low]]
         states.append((list(kept), list(rest)))
@@ -100,8 +102,9 @@ def run_of(shears, word, times):
     return None
 
 
-def wide_form(shears, run, many):
+def wide_form(press, run, many):
     """The round form of the run with `again` so many times, if by it those with more of them are known; else None."""
+    shears = press.shears
     word, untouched = run.cut_with(shears, many)
     middle = len(run.fore) + many // 2 * len(run.again)
     partings = Partings(shears, word)
@@ -112,9 +115,9 @@ def wide_form(shears, run, many):
         return None
     form = partings.first()[0]
     # With no left in it, read round, the first of all turned about is its round form, with more of `again` too.
-    if not shears.is_stiff(form + form[:shears.longest]):
+    if not shears.is_stiff(list(form + form[:shears.longest])):
         return None
-    return turned(shears, form)[0]
+    return turned(press, pieces_of(form))[0]
 
 
 def root_by(run, few, form):
@@ -125,19 +128,19 @@ def root_by(run, few, form):
     return (root, often + (run.many - few) * (len(run.again) // len(root)))
 
 
-def times_form(shears, word, times):
+def times_form(press, word, times):
     """The root of the round form of the word, done so many times, and how often it is done; None where not found.
 
     It is told without writing out the word.
     """
-    run = run_of(shears, word, times)
+    run = run_of(press.shears, word, times)
     if run is None:
         return None
     if not run.again:
-        return root_of(turned(shears, run.cut_with(shears, 0)[0])[0])
-    few = run.few(shears)
+        return root_of(turned(press, [run.cut_with(press.shears, 0)[0]])[0])
+    few = run.few(press.shears)
     for trial in range(WIDER):
-        form = wide_form(shears, run, few) if few <= run.many else None
+        form = wide_form(press, run, few) if few <= run.many else None
         if form is not None:
             return root_by(run, few, form)
         few *= FEWEST

@@ -1,56 +1,78 @@
-"""Steps from words in round form, which are told by a root and how many times it is done."""
+"""Steps from words in round form, which are texts here, told by a root and how many times it is done."""
 
 from boughturn.growth import MOST_TURNS, Growth, herds
 from boughturn.joints import turned
 from boughturn.powers import root_of, times_form
+from boughturn.presses import Press
 from boughturn.rings import rings_of
-from boughturn.rules import Shears
+from boughturn.signs import pieces_of, sign_of, text_of, word_of
 from boughturn.turners import hands_on, makes
 from boughturn.words import rising_turners
 
-# A word done more often is not written out, where its round form can be told without; that is about as much work as
-# doing it so many times.
-MOST_WRITTEN = 5
-# So many turners are cut at the most, in all: with more of them no end could be waited for.
-MOST_CUT = 30000000
-# From a word of so many turners on it is asked whether more and more words can be shown to come, each time that the
-# words have become twice as long.
+# A word done more often is not written out, where its round form can be told without.
+MOST_WRITTEN = 32
+# The most work, in steps gone one by one, and the most signs of all words: with more no end could be waited for.
+MOST_WORK = 150000000
+MOST_SIGNS = 300000000
+# From a word of so many signs on it is asked whether more and more words can be shown to come, each time that the words
+# have become twice as long.
 FIRST_ASKED = 32
+# More is not kept of what came of pieces.
+MOST_KNOWN = 300000
 
 
 def moves_of(table):
-    """Letter by letter and turner by turner, the letter that is made and the turner that is handed on."""
+    """Letter by letter and sign by sign, the letter that is made and the sign of what is handed on, for 0 none."""
     told = []
     for letter in range(table[0]):
-        told.append({turner: (makes(table, turner, letter), hands_on(table, turner, letter))
-                     for turner in rising_turners(table)})
+        moves = {}
+        for turner in rising_turners(table):
+            part = hands_on(table, turner, letter)
+            moves[sign_of(turner)] = (makes(table, turner, letter), sign_of(part) if part != 0 else "")
+        told.append(moves)
     return told
 
 
 class Strider:
-    """Steps from word to word by one table and rules, and keeps account of the turners that it cuts."""
+    """Steps from word to word by one table and rules."""
 
     def __init__(self, table, rules):
-        self.shears = Shears(rules)
+        self.press = Press(rules)
         self.moves = moves_of(table)
-        self.many_cut = 0
+        self.known = {}
 
-    def passed(self, word, letter):
-        """The letter that the word makes of the letter, and the word below the letter."""
+    def pass_signs(self, piece, letter):
+        """The letter that the piece makes of the letter, and the piece below the letter."""
+        self.press.work += len(piece)
         moves = self.moves
         handed = []
-        for turner in word:
-            letter, part = moves[letter][turner]
-            if part != 0:
-                handed.append(part)
-        return (letter, handed)
+        for sign in piece:
+            letter, part = moves[letter][sign]
+            handed.append(part)
+        return (letter, "".join(handed))
+
+    def passed(self, pieces, letter):
+        """The letter that the pieces make of the letter, and the pieces below the letter."""
+        known = self.known
+        told = []
+        for piece in pieces:
+            key = (piece, letter)
+            if key not in known:
+                if len(known) > MOST_KNOWN:
+                    known.clear()
+                known[key] = self.pass_signs(piece, letter)
+            letter, handed = known[key]
+            told.append(handed)
+        self.press.work += len(pieces)
+        return (letter, told)
 
     def round_words(self, root, times):
-        """Ring by ring of the root, done so many times, tuples (letter, many, word, times).
+        """Ring by ring of the root, done so many times, tuples (letter, many, pieces, times).
 
-        The round word is the word told, done so many times.
+        The round word is these pieces, one behind the other, done so many times.
         """
-        passes = [self.passed(root, letter) for letter in range(len(self.moves))]
+        parted = pieces_of(root)
+        passes = [self.passed(parted, letter) for letter in range(len(self.moves))]
         made = list(range(len(passes)))
         for turn in range(times % MOST_TURNS):
             made = [passes[letter][0] for letter in made]
@@ -61,26 +83,25 @@ class Strider:
         told = []
         for ring in rings_of(made):
             round_once = once[ring[0]]
-            word = [turner for letter in round_once for turner in passes[letter][1]]
-            told.append((ring[0], len(ring), word, times * len(ring) // len(round_once)))
+            pieces = [piece for letter in round_once for piece in passes[letter][1]]
+            told.append((ring[0], len(ring), pieces, times * len(ring) // len(round_once)))
         return told
 
-    def can_cut(self, many):
-        """Whether so many turners more may be cut; then they are taken into account."""
-        if self.many_cut + many > MOST_CUT:
-            return False
-        self.many_cut += many
-        return True
-
-    def form_of(self, word, times):
-        """The root and the times of the round form of the word, done so many times; None where that is too much."""
-        if times > MOST_WRITTEN and self.can_cut(MOST_WRITTEN * len(word)):
-            told = times_form(self.shears, word, times)
+    def form_of(self, pieces, times):
+        """The root and the times of the round form of the pieces, done so many times; None where it is too much."""
+        if times > MOST_WRITTEN:
+            word = "".join(pieces)
+            self.press.work += 8 * len(word)
+            told = times_form(self.press, word, times)
             if told is not None:
                 return told
-        if not self.can_cut(times * len(word)):
+        if self.is_too_much(times * sum([len(piece) for piece in pieces])):
             return None
-        return root_of(turned(self.shears, word * times)[0])
+        return root_of(turned(self.press, pieces * times)[0])
+
+    def is_too_much(self, many):
+        """Whether so many signs more, or what was done before, are too much work."""
+        return self.press.work > MOST_WORK or many > MOST_SIGNS
 
 
 class Walk:
@@ -98,26 +119,26 @@ class Walk:
         self.numbers = {}
         self.rows = []
         self.waiting = []
+        self.many_signs = 0
         self.growths = None
         self.asked = FIRST_ASKED
         # Whether steps are known to lead to more than the most words, and whether some steps were too much to go.
         self.has_more = False
         self.is_cut_off = False
-        self.number_of(root_of(turned(self.strider.shears, word)[0]))
+        self.number_of(root_of(turned(self.strider.press, [text_of(word)])[0]))
         while self.waiting and not self.has_more:
             self.go_on()
 
     def number_of(self, form):
         """The number of the word, which is taken in where it is new."""
-        root, times = form
-        key = (tuple(root), times)
-        if key not in self.numbers:
-            self.numbers[key] = len(self.found)
+        if form not in self.numbers:
+            self.numbers[form] = len(self.found)
             self.waiting.append(len(self.found))
-            self.found.append(key)
+            self.found.append(form)
+            self.many_signs += len(form[0])
             self.rows.append([])
             self.has_more = len(self.found) > self.most
-        return self.numbers[key]
+        return self.numbers[form]
 
     def go_on(self):
         """Goes the steps from the waiting word of the shortest root."""
@@ -125,12 +146,12 @@ class Walk:
         self.waiting.remove(number)
         root, times = self.found[number]
         self.ask_growth(root, times)
-        if not self.strider.can_cut(len(root)):
+        if self.strider.is_too_much(self.many_signs):
             self.is_cut_off = True
             return
         row = []
-        for letter, many, word, often in self.strider.round_words(root, times):
-            form = self.strider.form_of(word, often)
+        for letter, many, pieces, often in self.strider.round_words(root, times):
+            form = self.strider.form_of(pieces, often)
             if form is None:
                 self.is_cut_off = True
             elif not self.has_more:
@@ -148,4 +169,4 @@ class Walk:
     def word_at(self, number):
         """The word of this number, written out."""
         root, times = self.found[number]
-        return list(root) * times
+        return word_of(root) * times
