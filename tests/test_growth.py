@@ -82,7 +82,7 @@ class GrowthTests(unittest.TestCase):
         for table, paper in [*PAPERS, *others]:
             for word in chance_words(8, table, (1, 1, 1, 2, 3, 5)):
                 form = round_form(paper[0], word)
-                for most in (1, 2, 4, 7):
+                for most in (1, 2, 3, 5):
                     if shows(table, paper[0], form, most):
                         shown += 1
                         self.assertGreater(len(stepped_to(table, paper[0], form, most)), most, (table, word))

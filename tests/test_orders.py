@@ -3,14 +3,20 @@
 import copy
 import random
 import unittest
+from unittest import mock
 
+from boughturn import strides
 from boughturn.acting import led
 from boughturn.belows import below
 from boughturn.floors import settled
 from boughturn.orderbooks import is_order_book
 from boughturn.orders import order, round_form
+from boughturn.papers import look_paper
 from boughturn.words import contrary
 from tests.oracle import all_words, leads_by_rows, rank_key, round_form as oracle_form, steps_of, stepped_to
+from tests.sample_long import (
+    DOUBLING, DOUBLING_PAPER, LONG_FOUR, LONG_MANY, LONG_PAPER, LONG_WORD, LONGEST,
+)
 from tests.sample_papers import (
     BASIL, DRAGON, EVERY_OTHER, FIRST_PAPER, PAPERS, SHALLOW_FOUR, SHALLOW_THREE, THREES, paper_of,
 )
@@ -319,6 +325,55 @@ class OrderTests(unittest.TestCase):
             many = order(FIRST, FIRST_PAPER, word, MOST)[1]
             way = [0, 1, 0, 0, 1, 1, 0, 1]
             self.assertEqual(leads_by_rows(FIRST, word * many, way), way)
+
+
+class LongStepsTests(unittest.TestCase):
+    """Point 20, however many turners the words have to which steps lead."""
+
+    def check_never(self, table, paper, told):
+        kind, other, way, many, turner = told
+        self.assertEqual(kind, "never")
+        self.assertGreater(many, 1)
+        reached = way
+        for times in range(1, many + 1):
+            reached = led(table, other, reached)
+            self.assertEqual(reached == way, times == many)
+        about = contrary(turner) + below(table, other * many, way) + turner + contrary(other)
+        self.assertTrue(does_nothing(table, paper, about))
+
+    def test_the_papers_are_let_by(self):
+        self.assertIsNone(look_paper(LONG_FOUR, LONG_PAPER))
+        self.assertIsNone(look_paper(DOUBLING, DOUBLING_PAPER))
+
+    def test_few_words_of_many_turners(self):
+        for most in (LONG_MANY, 300, 1000):
+            self.check_never(LONG_FOUR, LONG_PAPER, order(LONG_FOUR, LONG_PAPER, LONG_WORD, most))
+        self.assertEqual(order(LONG_FOUR, LONG_PAPER, LONG_WORD, LONG_MANY - 1), ("open", LONG_MANY - 1))
+        self.assertGreater(LONGEST, 7000 * len(LONG_WORD))
+
+    def test_the_same_words_done_several_times(self):
+        for times in (3, 7):
+            told = order(LONG_FOUR, LONG_PAPER, LONG_WORD * times, LONG_MANY)
+            self.assertEqual(told[0], "never")
+            self.assertGreater(told[3], 1)
+            self.assertEqual(order(LONG_FOUR, LONG_PAPER, LONG_WORD * times, LONG_MANY - 1)[0], "open")
+
+    def test_steps_that_lead_on_for_ever_to_words_done_more_often(self):
+        for word in ([1, 2], [2, 1], [1, 2] * 30):
+            for most in (1, 8, 300, 1000):
+                self.assertEqual(order(DOUBLING, DOUBLING_PAPER, word, most), ("open", most))
+        for most in (1, 4, 8):
+            self.assertGreater(len(stepped_to(DOUBLING, DOUBLING_PAPER[0], [1, 2], most)), most)
+
+    def test_what_is_told_where_steps_are_too_much_work(self):
+        with mock.patch.object(strides, "MOST_WORK", 0):
+            self.assertEqual(order(COUNT_TWO, paper_of(COUNT_TWO), [1], 300), ("open", 300))
+        # By one ring the word is done twice as often, step by step; below the last letter it adds one.
+        table = (4, (((1, 2, 0, 3), (0, 1, 1, 2)), ((1, 0, 2, 3), (0, 2, 0, 0))))
+        paper = ([([k, -k], []) for k in (1, 2, -1, -2)], [[]], 2, 1)
+        self.assertEqual(order(table, paper, [1], 300), ("open", 300))
+        with mock.patch.object(strides, "MOST_WORK", 2000):
+            self.assertEqual(order(table, paper, [1], 300), ("never", [2], [0], 2, []))
 
 
 class OwnListTests(unittest.TestCase):
